@@ -1,0 +1,1 @@
+"""Coilnets: electrical networks made from impedance functions."""

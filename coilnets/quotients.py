@@ -1,0 +1,73 @@
+"""Arithmetic with functions of any degree, with integers of any size."""
+
+from math import gcd
+
+from coilnets.errors import NoFunction, TooLarge
+from coilnets.polys import coefficient_at, common_divisor, content, exact_quotient, over_number, poly_difference
+from coilnets.polys import poly_product, poly_sum, poly_times_number
+
+MOST_DEGREE = 12
+
+
+def quotient(top, bottom):
+    """The function top / bottom in its one form."""
+    if not bottom:
+        raise NoFunction()
+    if not top:
+        return (), (1,)
+    shared = common_divisor(top, bottom)
+    top, bottom = exact_quotient(top, shared), exact_quotient(bottom, shared)
+    number = gcd(content(top), content(bottom))
+    if bottom[-1] < 0:
+        number = -number
+    return over_number(top, number), over_number(bottom, number)
+
+
+def degree_of(one):
+    return max(0, len(one[0]) - 1, len(one[1]) - 1)
+
+
+def limited(one):
+    """A function that is about to be returned."""
+    if degree_of(one) > MOST_DEGREE:
+        raise TooLarge(MOST_DEGREE)
+    return one
+
+
+def constant_of(ratio):
+    return quotient((ratio[0],) if ratio[0] != 0 else (), (ratio[1],))
+
+
+def plus(one, other):
+    top = poly_sum(poly_product(one[0], other[1]), poly_product(other[0], one[1]))
+    return quotient(top, poly_product(one[1], other[1]))
+
+
+def minus(one, other):
+    top = poly_difference(poly_product(one[0], other[1]), poly_product(other[0], one[1]))
+    return quotient(top, poly_product(one[1], other[1]))
+
+
+def times(one, other):
+    return quotient(poly_product(one[0], other[0]), poly_product(one[1], other[1]))
+
+
+def over(one, other):
+    return quotient(poly_product(one[0], other[1]), poly_product(one[1], other[0]))
+
+
+def inserted(one, other):
+    """The function one with other in the place of s."""
+    power = degree_of(one)
+    return quotient(_inserted_over(one[0], other, power), _inserted_over(one[1], other, power))
+
+
+def _inserted_over(polynomial, other, power):
+    """A polynomial with other in the place of s, times the bottom of other to a power."""
+    total = ()
+    factor = (1,)
+    for at in reversed(range(power + 1)):
+        term = poly_times_number(factor, coefficient_at(polynomial, at))
+        total = poly_sum(poly_product(total, other[0]), term)
+        factor = poly_product(factor, other[1])
+    return total

@@ -1,0 +1,100 @@
+"""What several tests need."""
+
+import random
+import unittest
+from fractions import Fraction
+
+from coilnets import functions
+
+LIMIT = 10 ** 60
+
+# Values of each kind that a caller may pass; none of them is of any kind that the package knows.
+ODDITIES = (None, True, False, 0, 1, -3, "", "s", (), [], {}, [1, 2], (1, 2, 3), ((),), {"a": (1,)}, [(1,), (1,)],
+            (None, None), ("1", "2"), ((1,), (1,), (1,)))
+
+BAD_RATIOS = (None, True, 0, 1, "1", "ab", (), (1,), (1, 1, 1), [1, 2], {1: 2}, (1, 0), (0, 0), (0, 2), (2, 4), (3, 3),
+              (1, -2), (-1, -2), (True, 1), (1, True), (False, 1), (None, 1), ("1", 1), (1, "2"), ((1,), 2), ([1], 2),
+              (LIMIT + 1, 1), (-LIMIT - 1, 1), (1, LIMIT + 1))
+
+BAD_POSITIVES = BAD_RATIOS + ((0, 1), (-1, 1), (-2, 3), (-LIMIT, 1))
+
+BAD_POLYNOMIALS = (None, True, 0, 5, "", "s", [], [1], {}, {0: 1}, (0,), (1, 0), (0, 0), (True,), (1, True), (False, 1),
+                   (None,), ("1",), (1, "s"), ((1,),), ([],), (LIMIT + 1,), (1, -LIMIT - 1), (LIMIT + 1, 1),
+                   (1,) * 14, (0,) * 13 + (1,))
+
+BAD_FUNCTIONS = ODDITIES + (
+    (1, 1), (1, (1,)), ((1,), 1), ((1,), None), (None, (1,)), ([1], (1,)), ((1,), [1]), [(), (1,)],
+    ((1,), ()), ((), ()), ((), (2,)), ((), (-1,)), ((), (0, 1)),
+    ((1,), (-1,)), ((1,), (1, -1)), ((2,), (2,)), ((2, 2), (4,)), ((0, 2), (2, 4)),
+    ((0, 1), (0, 1)), ((0, 1), (0, 2)), ((1, 1), (1, 1)), ((1, 2, 1), (1, 0, -1)), ((-1, 0, 1), (1, 1)),
+    ((0,), (1,)), ((1, 0), (1,)), ((1,), (1, 0)), ((True,), (1,)), ((1,), (True,)), ((), (True,)), ((1,), (1, True)),
+    ((1, 2),), (((1,), (1,)), ((1,), (1,))), ((LIMIT + 1,), (1,)), ((1,), (LIMIT + 1,)), ((1,), (1,) * 14),
+    ((0,) * 13 + (1,), (1,)),
+)
+
+ZERO = ((), (1,))
+ONE = ((1,), (1,))
+S = ((0, 1), (1,))
+
+
+class CoilTest(unittest.TestCase):
+    """A test with a few words of its own."""
+
+    def raises(self, error, call, *arguments):
+        """The error that a call raises, which must be of this very class."""
+        with self.assertRaises(error) as caught:
+            call(*arguments)
+        self.assertIs(type(caught.exception), error, arguments)
+        return caught.exception
+
+
+def as_fraction(ratio):
+    return Fraction(*ratio)
+
+
+def as_ratio(fraction):
+    return fraction.numerator, fraction.denominator
+
+
+def power(degree):
+    """The function s to a power."""
+    return (0,) * degree + (1,), (1,)
+
+
+def product_of(*polynomials):
+    answer = [1]
+    for polynomial in polynomials:
+        longer = [0] * (len(answer) + len(polynomial) - 1)
+        for at, one in enumerate(answer):
+            for by, other in enumerate(polynomial):
+                longer[at + by] += one * other
+        answer = longer
+    return tuple(answer)
+
+
+def value_of(polynomial, fraction):
+    return sum((coefficient * fraction ** at for at, coefficient in enumerate(polynomial)), Fraction(0))
+
+
+def quotient_at(one, fraction):
+    """The value of a function, None at a pole, worked out by itself."""
+    below = value_of(one[1], fraction)
+    return None if below == 0 else value_of(one[0], fraction) / below
+
+
+def some_polynomial(source, degree, size):
+    numbers = [source.randint(-size, size) for _ in range(source.randint(0, degree) + 1)]
+    while numbers and numbers[-1] == 0:
+        numbers.pop()
+    return tuple(numbers)
+
+
+def some_functions(seed, many, degree, size):
+    """Functions that are the same in each run."""
+    source = random.Random(seed)
+    answer = []
+    while len(answer) < many:
+        bottom = some_polynomial(source, degree, size)
+        if bottom:
+            answer.append(functions.function(some_polynomial(source, degree, size), bottom))
+    return answer

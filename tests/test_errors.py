@@ -1,0 +1,24 @@
+"""The errors and their fields."""
+
+import unittest
+
+from coilnets import errors
+from helpers import CoilTest
+
+
+class ErrorClasses(CoilTest):
+
+    def test_base(self):
+        self.assertTrue(issubclass(errors.CoilError, ValueError))
+
+    def test_direct_subclasses(self):
+        for name in ("BadPolynomial", "BadFunction", "BadRatio", "NoFunction", "TooLarge", "NotText", "InvalidText"):
+            self.assertEqual(getattr(errors, name).__bases__, (errors.CoilError,), name)
+
+    def test_fields(self):
+        self.assertEqual(errors.TooLarge(12).most, 12)
+        self.assertEqual(errors.InvalidText(3).place, 3)
+
+
+if __name__ == "__main__":
+    unittest.main()

@@ -1,0 +1,38 @@
+"""The interface: each name stands in its file, with its arguments."""
+
+import importlib
+import inspect
+import unittest
+
+FUNCTIONS = {
+    "functions": {
+        "function": ["top", "bottom"], "constant": ["ratio"], "degree": ["function"],
+        "value_at": ["function", "ratio"], "add": ["one", "other"], "subtract": ["one", "other"],
+        "multiply": ["one", "other"], "divide": ["one", "other"], "reciprocal": ["one"], "compose": ["one", "other"],
+    },
+    "roots": {
+        "count_roots": ["polynomial", "low", "high"], "is_left": ["polynomial"], "never_negative": ["polynomial"],
+    },
+}
+
+ERRORS = ("CoilError", "BadPolynomial", "BadFunction", "BadRatio", "NoFunction", "TooLarge", "NotText", "InvalidText")
+
+
+class Interface(unittest.TestCase):
+
+    def test_functions(self):
+        for file, functions in FUNCTIONS.items():
+            module = importlib.import_module("coilnets." + file)
+            for name, arguments in functions.items():
+                found = getattr(module, name)
+                self.assertEqual(found.__module__, module.__name__)
+                self.assertEqual(list(inspect.signature(found).parameters), arguments)
+
+    def test_errors(self):
+        module = importlib.import_module("coilnets.errors")
+        for name in ERRORS:
+            self.assertEqual(getattr(module, name).__module__, module.__name__)
+
+
+if __name__ == "__main__":
+    unittest.main()
