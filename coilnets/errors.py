@@ -25,7 +25,7 @@ class TooLarge(CoilError):
     """The answer is a function of a degree above most."""
 
     def __init__(self, most):
-        CoilError.__init__(self, f"the degree is above {most}")
+        super().__init__(f"the degree is above {most}")
         self.most = most
 
 
@@ -37,5 +37,29 @@ class InvalidText(CoilError):
     """A text is not that of a function; place tells where it goes wrong."""
 
     def __init__(self, place):
-        CoilError.__init__(self, f"the text is wrong at the place {place}")
+        super().__init__(f"the text is wrong at the place {place}")
         self.place = place
+
+
+class BadNetwork(CoilError):
+    """A value is no network; index is that of the first thing that is no part, or None if there is no such thing."""
+
+    def __init__(self, index):
+        super().__init__(f"no network (index {index})")
+        self.index = index
+
+
+class BadNode(CoilError):
+    """A value is no node of the network, or is the same node where it must be another one."""
+
+
+class BadNumber(CoilError):
+    """A value is not one of the integers that are allowed."""
+
+
+class BadKind(CoilError):
+    """A thing is of a kind that is not allowed."""
+
+
+class NotJoined(CoilError):
+    """No row of parts joins the nodes."""

@@ -82,12 +82,9 @@ def exact_quotient(one, other):
     rest = list(one)
     answer = [0] * max(0, len(one) - len(other) + 1)
     for at in reversed(range(len(answer))):
-        factor, left = divmod(rest[at + len(other) - 1], other[-1])
-        if left != 0:
-            return None
-        answer[at] = factor
+        answer[at] = rest[at + len(other) - 1] // other[-1]
         for by, coefficient in enumerate(other):
-            rest[at + by] -= factor * coefficient
+            rest[at + by] -= answer[at] * coefficient
     return trimmed(answer) if not any(rest) else None
 
 

@@ -13,8 +13,6 @@ def quotient(top, bottom):
     """The function top / bottom in its one form."""
     if not bottom:
         raise NoFunction()
-    if not top:
-        return (), (1,)
     shared = common_divisor(top, bottom)
     top, bottom = exact_quotient(top, shared), exact_quotient(bottom, shared)
     number = gcd(content(top), content(bottom))
@@ -24,7 +22,7 @@ def quotient(top, bottom):
 
 
 def degree_of(one):
-    return max(0, len(one[0]) - 1, len(one[1]) - 1)
+    return max(len(one[0]), len(one[1])) - 1
 
 
 def limited(one):

@@ -98,3 +98,47 @@ def some_functions(seed, many, degree, size):
         if bottom:
             answer.append(functions.function(some_polynomial(source, degree, size), bottom))
     return answer
+
+
+R1 = ("R", 0, 1, (1, 1))
+
+# Values that are no networks, with the index that BadNetwork tells.
+BAD_NETWORKS = tuple([(value, None) for value in ODDITIES]) + (
+    ((2,), None), ((2, (), ()), None), ([2, ()], None), ((2, [R1]), None), ((2, [])[::-1], None), ((2, None), None),
+    ((2, "R"), None), ((2, {}), None), ((0, ()), None), ((-1, ()), None), ((9, ()), None), ((True, ()), None),
+    ((None, ()), None), (("2", ()), None), (((2, 1), ()), None), ((2, (R1,) * 15), None), ((9, (None,)), None),
+    ((2, (None,) * 15), None),
+    ((1, (R1,)), 0), ((2, ("R", 0, 1, (1, 1))), 0), ((2, (R1, R1, None, 5)), 2), ((2, (R1,) * 13 + (7,)), 13),
+) + tuple([((2, (R1, part, None)), 1) for part in (
+    None, True, 3, "R", (), [], {}, ("R",), ("R", 0, 1), ("R", 0, 1, (1, 1), 1), list(R1), [("R", 0, 1, (1, 1))],
+    ("r", 0, 1, (1, 1)), ("", 0, 1, (1, 1)), ("RL", 0, 1, (1, 1)), ("G", 0, 1, (1, 1)), (None, 0, 1, (1, 1)),
+    (1, 0, 1, (1, 1)), (["R"], 0, 1, (1, 1)), (("R",), 0, 1, (1, 1)),
+    ("R", 0, 0, (1, 1)), ("R", 1, 1, (1, 1)), ("R", 0, 2, (1, 1)), ("R", -1, 1, (1, 1)), ("R", 2, 0, (1, 1)),
+    ("R", 0, -1, (1, 1)), ("R", False, 1, (1, 1)), ("R", 0, True, (1, 1)), ("R", None, 1, (1, 1)),
+    ("R", 0, "1", (1, 1)), ("R", 0, (1,), (1, 1)), ("R", [0], 1, (1, 1)),
+    ("R", 0, 1, ((1,), (1,))), ("L", 0, 1, ((1,), (1,))), ("C", 0, 1, ((0, 1), (1,))),
+    ("Z", 0, 1, (1, 1)), ("Z", 0, 1, ZERO), ("Z", 0, 0, ONE), ("Z", 0, 2, ONE),
+)]) + tuple([((2, (R1, (kind, 1, 0, worth))), 1) for kind in "RLC" for worth in BAD_POSITIVES]) + tuple(
+    [((2, (R1, ("Z", 1, 0, worth))), 1) for worth in BAD_FUNCTIONS])
+
+BAD_NODES = (None, True, False, -1, 8, 10 ** 30, "0", "", (), (0,), [], [0], {}, {0: 0})
+
+
+def some_network(source, nodes, parts, kinds="RLC"):
+    """A network whose nodes are all joined, if it has parts enough."""
+    made = []
+    for at in range(parts):
+        a = at + 1 if at + 1 < nodes else source.randrange(nodes)
+        b = source.randrange(a) if at + 1 < nodes else source.choice([node for node in range(nodes) if node != a])
+        if source.random() < 0.5:
+            a, b = b, a
+        made.append((source.choice(kinds), a, b, as_ratio(Fraction(source.randint(1, 9), source.randint(1, 4)))))
+    return nodes, tuple(made)
+
+
+def admittance_at(part, place):
+    """The admittance of a part at a fraction, worked out by itself."""
+    kind, _, _, worth = part
+    if kind == "Z":
+        return 1 / quotient_at(worth, place)
+    return {"R": 1, "L": 1 / place, "C": place}[kind] * (Fraction(*worth) if kind == "C" else 1 / Fraction(*worth))

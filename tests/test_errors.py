@@ -12,12 +12,15 @@ class ErrorClasses(CoilTest):
         self.assertTrue(issubclass(errors.CoilError, ValueError))
 
     def test_direct_subclasses(self):
-        for name in ("BadPolynomial", "BadFunction", "BadRatio", "NoFunction", "TooLarge", "NotText", "InvalidText"):
+        for name in ("BadPolynomial", "BadFunction", "BadRatio", "NoFunction", "TooLarge", "NotText", "InvalidText",
+                     "BadNetwork", "BadNode", "BadNumber", "BadKind", "NotJoined"):
             self.assertEqual(getattr(errors, name).__bases__, (errors.CoilError,), name)
 
     def test_fields(self):
         self.assertEqual(errors.TooLarge(12).most, 12)
         self.assertEqual(errors.InvalidText(3).place, 3)
+        self.assertEqual(errors.BadNetwork(2).index, 2)
+        self.assertIsNone(errors.BadNetwork(None).index)
 
 
 if __name__ == "__main__":

@@ -13,9 +13,20 @@ FUNCTIONS = {
     "roots": {
         "count_roots": ["polynomial", "low", "high"], "is_left": ["polynomial"], "never_negative": ["polynomial"],
     },
+    "texts": {"write": ["function"], "read": ["text"]},
+    "networks": {
+        "part_impedance": ["network", "index"], "scaled": ["network", "size", "speed"], "turned": ["network"],
+        "triangle_of": ["one", "two", "three"], "star_of": ["one", "two", "three"],
+    },
+    "solving": {
+        "potentials": ["network", "a", "b"], "impedance": ["network", "a", "b"],
+        "voltage_ratio": ["network", "a", "b", "c", "d"], "solve_at": ["network", "a", "b", "ratio"],
+    },
+    "trees": {"tree_sum": ["network"], "split_sum": ["network", "a", "b"]},
 }
 
-ERRORS = ("CoilError", "BadPolynomial", "BadFunction", "BadRatio", "NoFunction", "TooLarge", "NotText", "InvalidText")
+ERRORS = ("CoilError", "BadPolynomial", "BadFunction", "BadRatio", "NoFunction", "TooLarge", "NotText", "InvalidText",
+          "BadNetwork", "BadNode", "BadNumber", "BadKind", "NotJoined")
 
 
 class Interface(unittest.TestCase):
