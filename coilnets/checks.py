@@ -52,6 +52,11 @@ def check_ratio(value):
         raise BadRatio()
 
 
+def check_positive_ratio(value):
+    if not is_positive_ratio(value):
+        raise BadRatio()
+
+
 def check_polynomial(value):
     if not is_polynomial(value):
         raise BadPolynomial()

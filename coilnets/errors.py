@@ -63,3 +63,19 @@ class BadKind(CoilError):
 
 class NotJoined(CoilError):
     """No row of parts joins the nodes."""
+
+
+class BadPoint(CoilError):
+    """A value is no point."""
+
+
+class NotPositive(CoilError):
+    """A function is not positive real."""
+
+
+class BadPairs(CoilError):
+    """A value is no pairs; index is that of the first thing that is no pair, or None if there is no such thing."""
+
+    def __init__(self, index):
+        super().__init__(f"no pairs (index {index})")
+        self.index = index

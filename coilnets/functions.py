@@ -2,10 +2,8 @@
 
 from coilnets.checks import check_function, check_polynomial, check_ratio
 from coilnets.errors import TooLarge
-from coilnets.polys import value_over
 from coilnets.quotients import MOST_DEGREE, constant_of, degree_of, inserted, limited, minus, over, plus, quotient
-from coilnets.quotients import times
-from coilnets.ratios import ratio_of
+from coilnets.quotients import times, value_of
 
 
 def function(top, bottom):
@@ -31,12 +29,7 @@ def value_at(function, ratio):
     """The value where s is a ratio, None at a pole."""
     check_function(function)
     check_ratio(ratio)
-    number, under = ratio
-    power = degree_of(function)
-    below = value_over(function[1], number, under, power)
-    if below == 0:
-        return None
-    return ratio_of(value_over(function[0], number, under, power), below)
+    return value_of(function, ratio)
 
 
 def add(one, other):

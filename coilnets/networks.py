@@ -1,7 +1,7 @@
 """Networks, their parts, and networks made from others."""
 
-from coilnets.checks import check_function, is_integer, is_positive_ratio
-from coilnets.errors import BadNumber, BadRatio
+from coilnets.checks import check_function, check_positive_ratio, is_integer
+from coilnets.errors import BadNumber
 from coilnets.quotients import constant_of, inserted, limited, over, plus, times
 from coilnets.ratios import ratio_product, ratio_quotient
 from coilnets.wiring import check_network, impedance_of
@@ -21,9 +21,8 @@ def part_impedance(network, index):
 def scaled(network, size, speed):
     """The network with part impedances times size, with s divided by speed in the place of s."""
     check_network(network)
-    for ratio in (size, speed):
-        if not is_positive_ratio(ratio):
-            raise BadRatio()
+    check_positive_ratio(size)
+    check_positive_ratio(speed)
     many, parts = network
     return many, tuple([_scaled_part(part, size, speed) for part in parts])
 

@@ -38,6 +38,11 @@ def poly_product(one, other):
     return tuple(answer)
 
 
+def backwards(polynomial):
+    """The polynomial with the negative of the variable in its place."""
+    return tuple([-coefficient if at % 2 == 1 else coefficient for at, coefficient in enumerate(polynomial)])
+
+
 def derivative(polynomial):
     return tuple([at * polynomial[at] for at in range(1, len(polynomial))])
 

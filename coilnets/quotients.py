@@ -4,7 +4,8 @@ from math import gcd
 
 from coilnets.errors import NoFunction, TooLarge
 from coilnets.polys import coefficient_at, common_divisor, content, exact_quotient, over_number, poly_difference
-from coilnets.polys import poly_product, poly_sum, poly_times_number
+from coilnets.polys import poly_product, poly_sum, poly_times_number, value_over
+from coilnets.ratios import ratio_of
 
 MOST_DEGREE = 12
 
@@ -52,6 +53,16 @@ def times(one, other):
 
 def over(one, other):
     return quotient(poly_product(one[0], other[1]), poly_product(one[1], other[0]))
+
+
+def value_of(one, ratio):
+    """The value where s is a ratio, None at a pole."""
+    number, under = ratio
+    power = degree_of(one)
+    below = value_over(one[1], number, under, power)
+    if below == 0:
+        return None
+    return ratio_of(value_over(one[0], number, under, power), below)
 
 
 def inserted(one, other):

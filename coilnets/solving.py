@@ -1,7 +1,7 @@
 """Potentials in a network."""
 
-from coilnets.checks import is_positive_ratio
-from coilnets.errors import BadKind, BadRatio, NoFunction, NotJoined
+from coilnets.checks import check_positive_ratio
+from coilnets.errors import BadKind, NoFunction, NotJoined
 from coilnets.minors import arms_among, minor_numbers, minor_polynomials
 from coilnets.polys import poly_difference, value_over
 from coilnets.quotients import degree_of, limited, quotient
@@ -45,8 +45,7 @@ def solve_at(network, a, b, ratio):
     """The values of the potentials at a positive ratio."""
     check_network(network)
     check_two_nodes(network, a, b)
-    if not is_positive_ratio(ratio):
-        raise BadRatio()
+    check_positive_ratio(ratio)
     nodes = _joined_nodes(network, a, b)
     if any([part[0] == "Z" for part in network[1]]):
         raise BadKind()

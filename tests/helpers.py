@@ -4,7 +4,7 @@ import random
 import unittest
 from fractions import Fraction
 
-from coilnets import functions
+from coilnets import functions, solving
 
 LIMIT = 10 ** 60
 
@@ -121,6 +121,9 @@ BAD_NETWORKS = tuple([(value, None) for value in ODDITIES]) + (
 )]) + tuple([((2, (R1, (kind, 1, 0, worth))), 1) for kind in "RLC" for worth in BAD_POSITIVES]) + tuple(
     [((2, (R1, ("Z", 1, 0, worth))), 1) for worth in BAD_FUNCTIONS])
 
+BAD_POINTS = ODDITIES + ((1, 1), ((1, 1),), ((1, 1), (1, 1), (1, 1)), [(1, 1), (1, 1)], {(1, 1): (1, 1)}, "xy") + tuple(
+    [(value, (1, 1)) for value in BAD_RATIOS]) + tuple([((1, 1), value) for value in BAD_RATIOS])
+
 BAD_NODES = (None, True, False, -1, 8, 10 ** 30, "0", "", (), (0,), [], [0], {}, {0: 0})
 
 
@@ -142,3 +145,79 @@ def admittance_at(part, place):
     if kind == "Z":
         return 1 / quotient_at(worth, place)
     return {"R": 1, "L": 1 / place, "C": place}[kind] * (Fraction(*worth) if kind == "C" else 1 / Fraction(*worth))
+
+
+def sum_of(functions_to_add):
+    """The sum of functions, worked out without a limit of their degrees between."""
+    top, bottom = (), (1,)
+    for one in functions_to_add:
+        left, right = product_of(top, one[1]), product_of(one[0], bottom)
+        many = max(len(left), len(right))
+        sums = [(left[at] if at < len(left) else 0) + (right[at] if at < len(right) else 0) for at in range(many)]
+        while sums and sums[-1] == 0:
+            sums.pop()
+        top, bottom = tuple(sums), product_of(bottom, one[1])
+    return functions.function(top, bottom)
+
+
+def tank(limit, square, under=1):
+    """The function limit s / (s s + square / under)."""
+    return functions.function((0, limit * under), (square, 0, under))
+
+
+def parts_at(one, x, y):
+    """The real part and the other part of the value of a function at x + i y, None at a pole, worked out by itself."""
+    (a, b), (c, d) = [_parts_of(polynomial, x, y) for polynomial in one]
+    size = c * c + d * d
+    return None if size == 0 else ((a * c + b * d) / size, (b * c - a * d) / size)
+
+
+def _parts_of(polynomial, x, y):
+    real, other = Fraction(0), Fraction(0)
+    for coefficient in reversed(polynomial):
+        real, other = real * x - other * y + coefficient, real * y + other * x
+    return real, other
+
+
+def some_impedances(seed, many, most_nodes=4, most_parts=6, kinds="RLC"):
+    """Impedances of networks, the same in each run."""
+    source = random.Random(seed)
+    answer = []
+    while len(answer) < many:
+        nodes = source.randint(2, most_nodes)
+        network = some_network(source, nodes, source.randint(nodes - 1, most_parts), kinds)
+        answer.append(solving.impedance(network, 0, 1))
+    return answer
+
+
+TOUCHING = ((1, 1, 1), (4, 1, 1))
+LOSSLESS_12 = sum_of([S, ((3,), (0, 1))] + [tank(k, k) for k in (1, 2, 3, 4, 5)])
+POSITIVE_12 = sum_of([((2,), (1,)), S, ((1,), (0, 2)), tank(1, 2), tank(5, 3, 7)]
+                     + [((k,), (k, 1)) for k in range(1, 7)])
+
+# Positive real functions: ratios, poles and zeros at 0, far out and on the axis, also at places that are no ratios,
+# functions whose real part touches 0 on the axis, and the greatest degree.
+POSITIVES = (
+    ZERO, ONE, ((3,), (7,)), ((1,), (LIMIT,)), S, ((0, 2), (3,)), ((1,), (0, 1)), ((2,), (0, 5)), ((1, 1), (1,)),
+    ((1,), (1, 1)), ((0, 1), (1, 1)), ((1, 1), (0, 1)), ((2, 1), (1, 1)), ((1, 0, 1), (0, 1)), ((0, 1), (1, 0, 1)),
+    ((0, 1), (2, 0, 1)), ((2, 0, 1), (0, 3)), ((0, 2, 0, 1), (1, 0, 1)), ((9, 0, 10, 0, 1), (0, 4, 0, 1)),
+    ((1, 1, 1), (0, 1)), ((2, 1, 1), (2, 0, 1)), ((2, 0, 1), (2, 1, 1)), ((3, 0, 2), (3, 5, 2)), TOUCHING,
+    ((1, 1, 1), (1, 1, 4)), ((0, 1), (1, 1, 1)), ((1, 0, 1), (1, 1, 1)), ((1, 2, 1), (1, 1, 1)),
+    functions.subtract(((2, 1), (1, 1)), ONE), POSITIVE_12, LOSSLESS_12, functions.reciprocal(POSITIVE_12),
+)
+
+NEGATIVES = (
+    ((-1,), (1,)), ((-1,), (LIMIT,)), ((0, -1), (1,)), ((-1,), (0, 1)), ((-1, 1), (1,)), ((1, -1), (1,)),
+    ((0, 0, 1), (1,)), ((1,), (0, 0, 1)), ((0, 0, 0, 1), (1,)), ((1,), (0, 0, 0, 1)), ((1, 1, 1), (1,)),
+    ((1,), (1, 1, 1)), ((1, 3, 3, 1), (1,)), ((1,), (-1, 1)), ((1, 1), (-1, 1)), ((-1, 1), (1, 1)), ((1, -1), (1, 1)),
+    ((1, 0, 1), (1,)), ((1,), (1, 0, 1)), ((1, 1), (1, 0, 1)), ((1, 0, 1), (1, 1)), ((0, -1), (1, 0, 1)),
+    ((0, 1), (-1, 0, 1)), ((0, -1), (2, 0, 1)), ((1, 1), (2, 0, 1)), ((0, 1), (1, 0, 2, 0, 1)),
+    ((1, 0, 2, 0, 1), (0, 1)), ((4, 0, 4, 0, 1), (0, 0, 0, 1)), ((0, 0, 0, 1), (4, 0, 4, 0, 1)),
+    ((1, 0, 5, 0, 4), (0, 2, 0, 1)), ((1, -2, 1), (1, 2, 1)), ((1, 1), (1, -1, 1)), ((1, -1, 1), (1, 1)),
+    ((2, -1, 1), (2, 1, 1)), ((1, 1, 2), (4, 1, 1)), ((0, 0, 1), (1, 1)), ((1, 1), (0, 0, 1)), ((1, 1), (0, 0, 0, 1)),
+    functions.subtract(TOUCHING, ((1,), (10 ** 20,))), functions.subtract(((2, 1), (1, 1)), ((1001,), (1000,))),
+    functions.subtract(POSITIVE_12, ((6,), (1,))), functions.subtract(LOSSLESS_12, tank(3, 2)),
+    functions.subtract(LOSSLESS_12, ((1,), (10 ** 9,))),
+    functions.subtract(POSITIVE_12, ((0, 2), (1,))), functions.subtract(POSITIVE_12, ((2,), (0, 1))),
+    ((1,) * 13, (1,)), ((1,), (1,) * 13), ((LIMIT,) + (0,) * 11 + (1,), (1,) + (0,) * 11 + (LIMIT,)),
+)

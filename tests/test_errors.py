@@ -13,7 +13,8 @@ class ErrorClasses(CoilTest):
 
     def test_direct_subclasses(self):
         for name in ("BadPolynomial", "BadFunction", "BadRatio", "NoFunction", "TooLarge", "NotText", "InvalidText",
-                     "BadNetwork", "BadNode", "BadNumber", "BadKind", "NotJoined"):
+                     "BadNetwork", "BadNode", "BadNumber", "BadKind", "NotJoined",
+                     "BadPoint", "NotPositive", "BadPairs"):
             self.assertEqual(getattr(errors, name).__bases__, (errors.CoilError,), name)
 
     def test_fields(self):
@@ -21,6 +22,8 @@ class ErrorClasses(CoilTest):
         self.assertEqual(errors.InvalidText(3).place, 3)
         self.assertEqual(errors.BadNetwork(2).index, 2)
         self.assertIsNone(errors.BadNetwork(None).index)
+        self.assertEqual(errors.BadPairs(3).index, 3)
+        self.assertIsNone(errors.BadPairs(None).index)
 
 
 if __name__ == "__main__":

@@ -23,10 +23,22 @@ FUNCTIONS = {
         "voltage_ratio": ["network", "a", "b", "c", "d"], "solve_at": ["network", "a", "b", "ratio"],
     },
     "trees": {"tree_sum": ["network"], "split_sum": ["network", "a", "b"]},
+    "positive": {
+        "is_positive": ["function"], "passes_poles": ["function"], "axis_part": ["function"],
+        "can_lose": ["function", "ratio"],
+    },
+    "against": {
+        "point_against": ["function"], "shows_against": ["function", "value"], "value_at_point": ["function", "point"],
+    },
+    "removal": {
+        "pole_far": ["function"], "pole_near": ["function"], "axis_split": ["function"],
+        "richards": ["function", "ratio"], "echo_of": ["function"], "from_echo": ["function"],
+    },
+    "passing": {"pick_table": ["pairs"], "through": ["pairs"]},
 }
 
 ERRORS = ("CoilError", "BadPolynomial", "BadFunction", "BadRatio", "NoFunction", "TooLarge", "NotText", "InvalidText",
-          "BadNetwork", "BadNode", "BadNumber", "BadKind", "NotJoined")
+          "BadNetwork", "BadNode", "BadNumber", "BadKind", "NotJoined", "BadPoint", "NotPositive", "BadPairs")
 
 
 class Interface(unittest.TestCase):
