@@ -2,7 +2,7 @@
 
 from coilnets.polys import backwards, coefficient_at, common_divisor, exact_quotient, poly_product, poly_sum
 from coilnets.polys import poly_times_number, trimmed
-from coilnets.quotients import minus, plus, quotient
+from coilnets.quotients import minus, over_s, plus, quotient
 from coilnets.ratios import ratio_of
 from coilnets.remainders import divided, inverse_modulo
 from coilnets.sturm import has_left_roots, is_nowhere_negative, jumps, roots_between
@@ -24,9 +24,13 @@ def is_positive_real(one):
     return total != () and has_left_roots(total) and is_nowhere_negative(real_top(one))
 
 
+def is_lossless_function(one):
+    return squares_of(one) is not None and is_positive_real(one)
+
+
 def squares_of(one):
     """The two polynomials A and B without common divisors with s A(s * s) / B(s * s) as the function, or None."""
-    top, bottom = quotient(one[0], (0,) + one[1])
+    top, bottom = over_s(one)
     if any(top[1::2]) or any(bottom[1::2]):
         return None
     return top[::2], bottom[::2]
@@ -48,6 +52,14 @@ def far_limit(one):
     """The ratio k with which one - k s has a value beyond all bounds, if its pole there is simple."""
     top, bottom = one
     return ratio_of(coefficient_at(top, len(bottom)), bottom[-1])
+
+
+def near_limit(one):
+    """The ratio k with which one - k / s has a value at 0, if its pole there is simple."""
+    top, bottom = one
+    if bottom[0] != 0:
+        return 0, 1
+    return ratio_of(top[0], bottom[1])
 
 
 def axis_divisor(polynomial):

@@ -79,3 +79,23 @@ class BadPairs(CoilError):
     def __init__(self, index):
         super().__init__(f"no pairs (index {index})")
         self.index = index
+
+
+class BadLadder(CoilError):
+    """A value is no ladder; index is that of the first thing that is no rung, or None if there is no such thing."""
+
+    def __init__(self, index):
+        super().__init__(f"no ladder (index {index})")
+        self.index = index
+
+
+class NotLossless(CoilError):
+    """A function is not lossless, or is 0 where that is not allowed."""
+
+
+class TooManyNodes(CoilError):
+    """The network would have more nodes than a network may have."""
+
+
+class NotSimple(CoilError):
+    """A function is not of resistors with one other kind of part, or is not of the kind that is asked for."""

@@ -2,8 +2,8 @@
 
 from coilnets.checks import check_function, check_polynomial, check_ratio
 from coilnets.errors import TooLarge
-from coilnets.quotients import MOST_DEGREE, constant_of, degree_of, inserted, limited, minus, over, plus, quotient
-from coilnets.quotients import times, value_of
+from coilnets.quotients import MOST_DEGREE, constant_of, degree_of, inserted, inverse, limited, minus, over, plus
+from coilnets.quotients import quotient, times, value_of
 
 
 def function(top, bottom):
@@ -54,7 +54,7 @@ def divide(one, other):
 
 def reciprocal(one):
     check_function(one)
-    return quotient(one[1], one[0])
+    return inverse(one)
 
 
 def compose(one, other):

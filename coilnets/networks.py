@@ -2,11 +2,9 @@
 
 from coilnets.checks import check_function, check_positive_ratio, is_integer
 from coilnets.errors import BadNumber
-from coilnets.quotients import constant_of, inserted, limited, over, plus, times
-from coilnets.ratios import ratio_product, ratio_quotient
-from coilnets.wiring import check_network, impedance_of
-
-INVERSE_OF_S = ((1,), (0, 1))
+from coilnets.quotients import constant_of, inserted, limited, over, plus, times, turned_over
+from coilnets.ratios import inverse_ratio, ratio_product, ratio_quotient
+from coilnets.wiring import check_network, dual_kind, impedance_of
 
 
 def part_impedance(network, index):
@@ -63,11 +61,10 @@ def _scaled_part(part, size, speed):
 def _turned_part(part):
     kind, a, b, worth = part
     if kind == "Z":
-        return kind, a, b, inserted(worth, INVERSE_OF_S)
+        return kind, a, b, turned_over(worth)
     if kind == "R":
         return part
-    other_kind = "C" if kind == "L" else "L"
-    return other_kind, a, b, ratio_quotient((1, 1), worth)
+    return dual_kind(kind), a, b, inverse_ratio(worth)
 
 
 def _check_three(one, two, three):

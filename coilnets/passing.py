@@ -2,7 +2,7 @@
 
 from coilnets.checks import is_positive_ratio
 from coilnets.errors import BadPairs
-from coilnets.polys import poly_sum, poly_times_number
+from coilnets.polys import poly_sum, poly_times_number, times_variable
 from coilnets.quotients import constant_of, limited, quotient
 from coilnets.ratios import ratio_of, ratio_quotient, ratio_sum
 
@@ -72,6 +72,6 @@ def _exchanged(place, value, pair):
 def _before_exchange(inner, place, value):
     """The function v (s + k G) / (k + s G) for the exchanged function G, whose bottom may be 0."""
     top, bottom = inner
-    above = poly_sum(poly_times_number((0,) + bottom, place[1]), poly_times_number(top, place[0]))
-    below = poly_sum(poly_times_number(bottom, place[0]), poly_times_number((0,) + top, place[1]))
+    above = poly_sum(poly_times_number(times_variable(bottom), place[1]), poly_times_number(top, place[0]))
+    below = poly_sum(poly_times_number(bottom, place[0]), poly_times_number(times_variable(top), place[1]))
     return quotient(poly_times_number(above, value[0]), poly_times_number(below, value[1]))

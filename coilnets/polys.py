@@ -43,6 +43,18 @@ def backwards(polynomial):
     return tuple([-coefficient if at % 2 == 1 else coefficient for at, coefficient in enumerate(polynomial)])
 
 
+def times_variable(polynomial):
+    return (0,) + polynomial if polynomial else ()
+
+
+def of_square(polynomial):
+    """The polynomial with the square of the variable in its place."""
+    answer = []
+    for coefficient in polynomial:
+        answer += [coefficient, 0]
+    return tuple(answer[:-1])
+
+
 def derivative(polynomial):
     return tuple([at * polynomial[at] for at in range(1, len(polynomial))])
 

@@ -4,7 +4,7 @@ from math import gcd
 
 from coilnets.errors import NoFunction, TooLarge
 from coilnets.polys import coefficient_at, common_divisor, content, exact_quotient, over_number, poly_difference
-from coilnets.polys import poly_product, poly_sum, poly_times_number, value_over
+from coilnets.polys import poly_product, poly_sum, poly_times_number, times_variable, value_over
 from coilnets.ratios import ratio_of
 
 MOST_DEGREE = 12
@@ -55,6 +55,18 @@ def over(one, other):
     return quotient(poly_product(one[0], other[1]), poly_product(one[1], other[0]))
 
 
+def inverse(one):
+    return quotient(one[1], one[0])
+
+
+def times_s(one):
+    return quotient(times_variable(one[0]), one[1])
+
+
+def over_s(one):
+    return quotient(one[0], times_variable(one[1]))
+
+
 def value_of(one, ratio):
     """The value where s is a ratio, None at a pole."""
     number, under = ratio
@@ -69,6 +81,11 @@ def inserted(one, other):
     """The function one with other in the place of s."""
     power = degree_of(one)
     return quotient(_inserted_over(one[0], other, power), _inserted_over(one[1], other, power))
+
+
+def turned_over(one):
+    """The function one with 1 / s in the place of s."""
+    return inserted(one, ((1,), (0, 1)))
 
 
 def _inserted_over(polynomial, other, power):

@@ -11,6 +11,11 @@ def ratio_of(number, under):
     return number // shared, under // shared
 
 
+def inverse_ratio(ratio):
+    """1 divided by a positive ratio."""
+    return ratio[1], ratio[0]
+
+
 def ratio_sum(one, other):
     return ratio_of(one[0] * other[1] + other[0] * one[1], one[1] * other[1])
 

@@ -1,11 +1,10 @@
 """Taking poles away from positive real functions, and exchanges that keep such functions so."""
 
-from coilnets.axis import far_limit, is_positive_real, split_at_axis
+from coilnets.axis import far_limit, is_positive_real, near_limit, split_at_axis
 from coilnets.checks import check_function, check_positive_ratio
 from coilnets.errors import NoFunction, NotPositive
-from coilnets.polys import poly_difference, poly_sum, poly_times_number
+from coilnets.polys import poly_difference, poly_sum, poly_times_number, times_variable
 from coilnets.quotients import limited, quotient, value_of
-from coilnets.ratios import ratio_of
 
 
 def pole_far(function):
@@ -17,10 +16,7 @@ def pole_far(function):
 def pole_near(function):
     """The ratio k of the pole at 0: the function less k / s has none."""
     _check_positive(function)
-    top, bottom = function
-    if bottom[0] != 0:
-        return 0, 1
-    return ratio_of(top[0], bottom[1])
+    return near_limit(function)
 
 
 def axis_split(function):
@@ -43,8 +39,8 @@ def richards(function, ratio):
     by_value = ratio[1] * value[0]
     by_both = ratio[0] * value[0]
     by_none = ratio[1] * value[1]
-    above = poly_difference(poly_times_number(top, by_k), poly_times_number((0,) + bottom, by_value))
-    below = poly_difference(poly_times_number(bottom, by_both), poly_times_number((0,) + top, by_none))
+    above = poly_difference(poly_times_number(top, by_k), poly_times_number(times_variable(bottom), by_value))
+    below = poly_difference(poly_times_number(bottom, by_both), poly_times_number(times_variable(top), by_none))
     return limited(quotient(above, below))
 
 

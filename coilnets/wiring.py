@@ -54,6 +54,11 @@ def check_two_nodes(network, a, b):
         raise BadNode()
 
 
+def dual_kind(kind):
+    """The kind of a capacitor for that of a coil, and the other way round."""
+    return "C" if kind == "L" else "L"
+
+
 def impedance_of(part):
     """The impedance of a part, a function."""
     kind, worth = part[0], part[3]

@@ -121,6 +121,20 @@ BAD_NETWORKS = tuple([(value, None) for value in ODDITIES]) + (
 )]) + tuple([((2, (R1, (kind, 1, 0, worth))), 1) for kind in "RLC" for worth in BAD_POSITIVES]) + tuple(
     [((2, (R1, ("Z", 1, 0, worth))), 1) for worth in BAD_FUNCTIONS])
 
+RUNG = ("S", "L", (1, 1))
+
+# Values that are no ladders, with the index that BadLadder tells.
+BAD_RUNGS = ODDITIES + (("S",), ("S", "L"), ("S", "L", (1, 1), 1), list(RUNG), "SLR", {"S": "L"}, ("X", "L", (1, 1)),
+                        ("s", "L", (1, 1)), ("", "L", (1, 1)), (None, "L", (1, 1)), (("S",), "L", (1, 1)),
+                        (["S"], "L", (1, 1)), ("SP", "L", (1, 1)), ("S", "Z", ONE), ("P", "Z", (1, 1)),
+                        ("S", "G", (1, 1)), ("S", "r", (1, 1)), ("S", "", (1, 1)), ("S", "LC", (1, 1)),
+                        ("S", None, (1, 1)), ("S", ["L"], (1, 1)), ("S", {}, (1, 1)), ("L", "S", (1, 1)),
+                        ("S", "R", ONE)) + tuple([("P", "C", value) for value in BAD_POSITIVES])
+BAD_LADDERS = tuple([(value, None) for value in ODDITIES if not isinstance(value, tuple) or value == ()]) + (
+    ([RUNG], None), ({0: RUNG}, None), ("SP", None), ((RUNG,) * 14, None), ((None,) * 14, None),
+    (RUNG, 0), ((RUNG,) * 12 + (None,), 12), ((RUNG, RUNG, 3, None), 2)) + tuple(
+        [((value,), 0) for value in BAD_RUNGS]) + tuple([((RUNG, value, None), 1) for value in BAD_RUNGS])
+
 BAD_POINTS = ODDITIES + ((1, 1), ((1, 1),), ((1, 1), (1, 1), (1, 1)), [(1, 1), (1, 1)], {(1, 1): (1, 1)}, "xy") + tuple(
     [(value, (1, 1)) for value in BAD_RATIOS]) + tuple([((1, 1), value) for value in BAD_RATIOS])
 
@@ -220,4 +234,53 @@ NEGATIVES = (
     functions.subtract(LOSSLESS_12, ((1,), (10 ** 9,))),
     functions.subtract(POSITIVE_12, ((0, 2), (1,))), functions.subtract(POSITIVE_12, ((2,), (0, 1))),
     ((1,) * 13, (1,)), ((1,), (1,) * 13), ((LIMIT,) + (0,) * 11 + (1,), (1,) + (0,) * 11 + (LIMIT,)),
+)
+
+
+def some_ladder(source, many, rungs):
+    """A ladder of rungs with these places and kinds."""
+    return tuple([source.choice(rungs) + (as_ratio(Fraction(source.randint(1, 9), source.randint(1, 4))),)
+                  for _ in range(many)])
+
+
+def ladder_at(ladder, place):
+    """The impedance of a ladder at a positive fraction, worked out by itself."""
+    found = None
+    for rung in reversed(ladder):
+        own = 1 / admittance_at((rung[1], 0, 1, rung[2]), place)
+        if found is None:
+            found = own
+        else:
+            found = own + found if rung[0] == "S" else own * found / (own + found)
+    return found
+
+
+def lossless_of(zeros, poles, size=1, at_zero=1):
+    """size times s or 1 / s, times all s s + square of zeros, divided by those of poles."""
+    factors = [[(Fraction(square).numerator, 0, Fraction(square).denominator) for square in squares]
+               for squares in (zeros, poles)]
+    ends = ((0, size), (1,)) if at_zero == 1 else ((size,), (0, 1))
+    return functions.function(product_of(ends[0], *factors[0]), product_of(ends[1], *factors[1]))
+
+
+# Functions that are not lossless, though some of them are but for a sign, a multiple pole or one coefficient.
+NOT_LOSSLESS = NEGATIVES + (
+    ONE, ((3,), (7,)), ((1, 1), (1,)), ((0, 1), (1, 1)), ((1, 1), (0, 1)), ((1, 1, 1), (0, 1)), ((2, 1, 1), (2, 0, 1)),
+    TOUCHING, POSITIVE_12, ((-1, 0, 1), (0, 1)), ((1, 0, -1), (0, 1)), ((-1, 0, -1), (0, 1)), ((0, 1), (-1, 0, 1)),
+    ((0, -2, 0, -1), (1, 0, 1)), ((0, 1, 0, 1), (2, 0, 1)),
+    ((9, 0, -10, 0, 1), (0, 4, 0, 1)), ((9, 0, 10, 0, 1), (0, 10, 0, 1)), ((9, 0, 10, 0, 1), (0, -4, 0, 1)),
+    ((9, 0, 10, 0, -1), (0, 4, 0, 1)), ((9, 0, 5, 0, 1), (0, 4, 0, 1)), ((9, 1, 10, 0, 1), (0, 4, 0, 1)),
+    ((9, 0, 10, 0, 1), (1, 4, 0, 1)), ((9, 0, 10, 0, 1), (0, 4, 1, 1)), ((9, 0, 10, 0, 1), (0, 1)),
+    ((0, 4), (9, 0, 10, 0, 1)), ((0, 2, 0, 1), (1, 0, 2, 0, 1)), ((4, 0, 1), (0, 1, 0, 1)),
+    ((4, 0, 5, 0, 1), (0, 0, 0, 1)),
+    functions.subtract(LOSSLESS_12, tank(4, 3)), functions.subtract(LOSSLESS_12, tank(7, 5)),
+    functions.subtract(LOSSLESS_12, ((0, 2), (1,))), functions.subtract(LOSSLESS_12, ((4,), (0, 1))),
+)
+LOSSLESS = (
+    S, ((0, 2), (3,)), ((1,), (0, 1)), ((5,), (0, 7)), ((0, LIMIT), (1,)), ((0, 1), (1, 0, 1)), ((1, 0, 1), (0, 1)),
+    ((0, 2, 0, 1), (1, 0, 1)), ((1, 0, 1), (0, 2, 0, 1)), ((9, 0, 10, 0, 1), (0, 4, 0, 1)),
+    ((0, 4, 0, 1), (9, 0, 10, 0, 1)), ((0, 3, 0, 2), (1, 0, 3, 0, 1)), ((1, 0, 3, 0, 1), (0, 3, 0, 2)),
+    lossless_of((1, 3, 5), (2, 4), 7, -1), lossless_of((2, 4), (1, 3, 5), 7), lossless_of((1, 3), (2, 4), 2, -1),
+    lossless_of((2, 4), (1, 3), 2), lossless_of((Fraction(1, 9), 6), (4,), 1, -1), LOSSLESS_12,
+    functions.reciprocal(LOSSLESS_12),
 )

@@ -14,7 +14,7 @@ class ErrorClasses(CoilTest):
     def test_direct_subclasses(self):
         for name in ("BadPolynomial", "BadFunction", "BadRatio", "NoFunction", "TooLarge", "NotText", "InvalidText",
                      "BadNetwork", "BadNode", "BadNumber", "BadKind", "NotJoined",
-                     "BadPoint", "NotPositive", "BadPairs"):
+                     "BadPoint", "NotPositive", "BadPairs", "BadLadder", "NotLossless", "TooManyNodes", "NotSimple"):
             self.assertEqual(getattr(errors, name).__bases__, (errors.CoilError,), name)
 
     def test_fields(self):
@@ -24,6 +24,8 @@ class ErrorClasses(CoilTest):
         self.assertIsNone(errors.BadNetwork(None).index)
         self.assertEqual(errors.BadPairs(3).index, 3)
         self.assertIsNone(errors.BadPairs(None).index)
+        self.assertEqual(errors.BadLadder(12).index, 12)
+        self.assertIsNone(errors.BadLadder(None).index)
 
 
 if __name__ == "__main__":

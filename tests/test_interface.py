@@ -35,10 +35,25 @@ FUNCTIONS = {
         "richards": ["function", "ratio"], "echo_of": ["function"], "from_echo": ["function"],
     },
     "passing": {"pick_table": ["pairs"], "through": ["pairs"]},
+    "lossless": {
+        "is_lossless": ["function"], "takes_turns": ["function"], "reactance_at": ["function", "ratio"],
+        "slope_at": ["function", "ratio"], "turns_between": ["function", "low", "high"],
+    },
+    "ladders": {
+        "ladder_impedance": ["ladder"], "ladder_network": ["ladder"], "far_ladder": ["function"],
+        "near_ladder": ["function"], "band_ladder": ["ladder"],
+    },
+    "tanks": {"tank_parts": ["function"]},
+    "simple": {
+        "is_rc": ["function"], "is_rl": ["function"], "as_coils": ["function"], "as_capacitors": ["function"],
+        "rc_far": ["function"], "rc_near": ["function"], "rl_far": ["function"], "rl_near": ["function"],
+        "order_of": ["function"], "mirrored": ["function", "kind"],
+    },
 }
 
 ERRORS = ("CoilError", "BadPolynomial", "BadFunction", "BadRatio", "NoFunction", "TooLarge", "NotText", "InvalidText",
-          "BadNetwork", "BadNode", "BadNumber", "BadKind", "NotJoined", "BadPoint", "NotPositive", "BadPairs")
+          "BadNetwork", "BadNode", "BadNumber", "BadKind", "NotJoined", "BadPoint", "NotPositive", "BadPairs",
+          "BadLadder", "NotLossless", "TooManyNodes", "NotSimple")
 
 
 class Interface(unittest.TestCase):
