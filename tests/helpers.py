@@ -209,6 +209,9 @@ LOSSLESS_12 = sum_of([S, ((3,), (0, 1))] + [tank(k, k) for k in (1, 2, 3, 4, 5)]
 POSITIVE_12 = sum_of([((2,), (1,)), S, ((1,), (0, 2)), tank(1, 2), tank(5, 3, 7)]
                      + [((k,), (k, 1)) for k in range(1, 7)])
 
+# Its poles are at i w with squares w * w that are no ratios.
+GOLDEN = ((0, 3, 0, 2), (1, 0, 3, 0, 1))
+
 # Positive real functions: ratios, poles and zeros at 0, far out and on the axis, also at places that are no ratios,
 # functions whose real part touches 0 on the axis, and the greatest degree.
 POSITIVES = (
@@ -217,6 +220,7 @@ POSITIVES = (
     ((0, 1), (2, 0, 1)), ((2, 0, 1), (0, 3)), ((0, 2, 0, 1), (1, 0, 1)), ((9, 0, 10, 0, 1), (0, 4, 0, 1)),
     ((1, 1, 1), (0, 1)), ((2, 1, 1), (2, 0, 1)), ((2, 0, 1), (2, 1, 1)), ((3, 0, 2), (3, 5, 2)), TOUCHING,
     ((1, 1, 1), (1, 1, 4)), ((0, 1), (1, 1, 1)), ((1, 0, 1), (1, 1, 1)), ((1, 2, 1), (1, 1, 1)),
+    GOLDEN, functions.reciprocal(GOLDEN), functions.add(GOLDEN, ((2, 1), (1, 1))), functions.add(GOLDEN, TOUCHING),
     functions.subtract(((2, 1), (1, 1)), ONE), POSITIVE_12, LOSSLESS_12, functions.reciprocal(POSITIVE_12),
 )
 
@@ -229,6 +233,8 @@ NEGATIVES = (
     ((1, 0, 2, 0, 1), (0, 1)), ((4, 0, 4, 0, 1), (0, 0, 0, 1)), ((0, 0, 0, 1), (4, 0, 4, 0, 1)),
     ((1, 0, 5, 0, 4), (0, 2, 0, 1)), ((1, -2, 1), (1, 2, 1)), ((1, 1), (1, -1, 1)), ((1, -1, 1), (1, 1)),
     ((2, -1, 1), (2, 1, 1)), ((1, 1, 2), (4, 1, 1)), ((0, 0, 1), (1, 1)), ((1, 1), (0, 0, 1)), ((1, 1), (0, 0, 0, 1)),
+    functions.subtract(ZERO, GOLDEN), ((0, 1), (1, 0, 6, 0, 11, 0, 6, 0, 1)), functions.subtract(GOLDEN, ((1,), (99,))),
+    ((0, 1), (1, 0, 3, 0, 1)), ((1, 3, 0, 2), (1, 0, 3, 0, 1)), functions.add(((0, 4), (1, 0, 3, 0, 1)), TOUCHING),
     functions.subtract(TOUCHING, ((1,), (10 ** 20,))), functions.subtract(((2, 1), (1, 1)), ((1001,), (1000,))),
     functions.subtract(POSITIVE_12, ((6,), (1,))), functions.subtract(LOSSLESS_12, tank(3, 2)),
     functions.subtract(LOSSLESS_12, ((1,), (10 ** 9,))),
@@ -279,7 +285,7 @@ NOT_LOSSLESS = NEGATIVES + (
 LOSSLESS = (
     S, ((0, 2), (3,)), ((1,), (0, 1)), ((5,), (0, 7)), ((0, LIMIT), (1,)), ((0, 1), (1, 0, 1)), ((1, 0, 1), (0, 1)),
     ((0, 2, 0, 1), (1, 0, 1)), ((1, 0, 1), (0, 2, 0, 1)), ((9, 0, 10, 0, 1), (0, 4, 0, 1)),
-    ((0, 4, 0, 1), (9, 0, 10, 0, 1)), ((0, 3, 0, 2), (1, 0, 3, 0, 1)), ((1, 0, 3, 0, 1), (0, 3, 0, 2)),
+    ((0, 4, 0, 1), (9, 0, 10, 0, 1)), GOLDEN, functions.reciprocal(GOLDEN),
     lossless_of((1, 3, 5), (2, 4), 7, -1), lossless_of((2, 4), (1, 3, 5), 7), lossless_of((1, 3), (2, 4), 2, -1),
     lossless_of((2, 4), (1, 3), 2), lossless_of((Fraction(1, 9), 6), (4,), 1, -1), LOSSLESS_12,
     functions.reciprocal(LOSSLESS_12),
