@@ -99,3 +99,43 @@ class TooManyNodes(CoilError):
 
 class NotSimple(CoilError):
     """A function is not of resistors with one other kind of part, or is not of the kind that is asked for."""
+
+
+class BadChain(CoilError):
+    """A value is no chain; index is that of the first thing that is no function, or None if there is no such thing."""
+
+    def __init__(self, index):
+        super().__init__(f"no chain (index {index})")
+        self.index = index
+
+
+class BadFour(CoilError):
+    """A value is no four functions; index is that of the first other thing, or None if there is no such thing."""
+
+    def __init__(self, index):
+        super().__init__(f"no four functions (index {index})")
+        self.index = index
+
+
+class NotReciprocal(CoilError):
+    """A chain is not reciprocal."""
+
+
+class NotSymmetric(CoilError):
+    """A chain is not symmetric."""
+
+
+class NotFilter(CoilError):
+    """A ladder is no filter, or is none of the filters that are allowed."""
+
+
+class BadPieces(CoilError):
+    """A value is no pieces; index is that of the first thing that is no piece, or None if there is no such thing."""
+
+    def __init__(self, index):
+        super().__init__(f"no pieces (index {index})")
+        self.index = index
+
+
+class BadRung(CoilError):
+    """A value is no rung that can be exchanged with a piece."""

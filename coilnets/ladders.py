@@ -3,10 +3,10 @@
 from coilnets.axis import is_lossless_function
 from coilnets.checks import check_function
 from coilnets.errors import BadKind, TooManyNodes
-from coilnets.quotients import inverse, limited, plus
+from coilnets.quotients import limited
 from coilnets.ratios import inverse_ratio
-from coilnets.rungs import check_ladder, far_rungs, near_rungs
-from coilnets.wiring import MOST_NODES, dual_kind, impedance_of
+from coilnets.rungs import check_ladder, far_rungs, near_rungs, rungs_impedance
+from coilnets.wiring import MOST_NODES, dual_kind
 
 MOST_BAND_RUNGS = 6
 
@@ -14,10 +14,7 @@ MOST_BAND_RUNGS = 6
 def ladder_impedance(ladder):
     """The impedance at the input of a ladder."""
     check_ladder(ladder)
-    found = _rung_impedance(ladder[-1])
-    for rung in reversed(ladder[:-1]):
-        found = _put_ahead(rung, found)
-    return limited(found)
+    return limited(rungs_impedance(ladder))
 
 
 def ladder_network(ladder):
@@ -57,19 +54,6 @@ def band_ladder(ladder):
     for place, kind, worth in ladder:
         answer += [(place, kind, worth), (place, dual_kind(kind), inverse_ratio(worth))]
     return tuple(answer)
-
-
-def _rung_impedance(rung):
-    _, kind, worth = rung
-    return impedance_of((kind, 1, 0, worth))
-
-
-def _put_ahead(rung, found):
-    """The impedance of a rung with an impedance behind it."""
-    ahead = _rung_impedance(rung)
-    if rung[0] == "S":
-        return plus(ahead, found)
-    return inverse(plus(inverse(ahead), inverse(found)))
 
 
 def _has_ladder(function):

@@ -17,6 +17,17 @@ def arms_among(network, nodes):
     return [_arm_of(part) for part in network[1] if part[1] in nodes]
 
 
+def cut_of_potential(nodes, a, b, node):
+    """The cut of the potential of one of some joined nodes, for a and b, by Cramer's rule."""
+    if node == b:
+        return 0, [], []
+    rest = [other for other in nodes if other not in (a, b, node)]
+    if node == a:
+        return 1, rest, rest
+    # In the order rest, node, a of both rows and columns, row and column that go are neighbors: the sign is -1.
+    return -1, rest + [node], rest + [a]
+
+
 def _arm_of(part):
     top, bottom = impedance_of(part)
     return part[1], part[2], top, bottom

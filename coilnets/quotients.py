@@ -8,6 +8,8 @@ from coilnets.polys import poly_product, poly_sum, poly_times_number, times_vari
 from coilnets.ratios import ratio_of
 
 MOST_DEGREE = 12
+ZERO = ((), (1,))
+ONE = ((1,), (1,))
 
 
 def quotient(top, bottom):
@@ -33,6 +35,11 @@ def limited(one):
     return one
 
 
+def all_limited(functions):
+    """A tuple of functions that are about to be returned."""
+    return tuple([limited(one) for one in functions])
+
+
 def constant_of(ratio):
     return quotient((ratio[0],) if ratio[0] != 0 else (), (ratio[1],))
 
@@ -47,6 +54,10 @@ def minus(one, other):
     return quotient(top, poly_product(one[1], other[1]))
 
 
+def negative(one):
+    return poly_times_number(one[0], -1), one[1]
+
+
 def times(one, other):
     return quotient(poly_product(one[0], other[0]), poly_product(one[1], other[1]))
 
@@ -57,6 +68,11 @@ def over(one, other):
 
 def inverse(one):
     return quotient(one[1], one[0])
+
+
+def echo_function(one):
+    """The function (Z - 1) / (Z + 1) for a function Z."""
+    return quotient(poly_difference(one[0], one[1]), poly_sum(one[0], one[1]))
 
 
 def times_s(one):

@@ -20,6 +20,10 @@ def ratio_sum(one, other):
     return ratio_of(one[0] * other[1] + other[0] * one[1], one[1] * other[1])
 
 
+def ratio_difference(one, other):
+    return ratio_of(one[0] * other[1] - other[0] * one[1], one[1] * other[1])
+
+
 def ratio_product(one, other):
     return ratio_of(one[0] * other[0], one[1] * other[1])
 

@@ -4,7 +4,7 @@ from coilnets.axis import far_limit, is_positive_real, near_limit, split_at_axis
 from coilnets.checks import check_function, check_positive_ratio
 from coilnets.errors import NoFunction, NotPositive
 from coilnets.polys import poly_difference, poly_sum, poly_times_number, times_variable
-from coilnets.quotients import limited, quotient, value_of
+from coilnets.quotients import echo_function, limited, quotient, value_of
 
 
 def pole_far(function):
@@ -47,8 +47,7 @@ def richards(function, ratio):
 def echo_of(function):
     """The function (Z - 1) / (Z + 1), Z being the function."""
     check_function(function)
-    top, bottom = function
-    return quotient(poly_difference(top, bottom), poly_sum(top, bottom))
+    return echo_function(function)
 
 
 def from_echo(function):

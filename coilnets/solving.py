@@ -2,18 +2,18 @@
 
 from coilnets.checks import check_positive_ratio
 from coilnets.errors import BadKind, NoFunction, NotJoined
-from coilnets.minors import arms_among, minor_numbers, minor_polynomials
+from coilnets.minors import arms_among, cut_of_potential, minor_numbers, minor_polynomials
 from coilnets.polys import poly_difference, value_over
 from coilnets.quotients import degree_of, limited, quotient
 from coilnets.ratios import ratio_of
-from coilnets.wiring import check_network, check_node, check_two_nodes, nodes_joined_to
+from coilnets.wiring import check_network, check_node, check_two_nodes, nodes_joining
 
 
 def potentials(network, a, b):
     """The potentials of all nodes if 1 is sent from a to b, None for a node that is not joined to b."""
     check_network(network)
     check_two_nodes(network, a, b)
-    nodes = _joined_nodes(network, a, b)
+    nodes = nodes_joining(network, a, b)
     bottom, tops = _solution(network, nodes, a, b, nodes)
     found = [limited(quotient(top, bottom)) for top in tops]
     return _for_all_nodes(network, nodes, found)
@@ -23,7 +23,7 @@ def impedance(network, a, b):
     """The impedance between two nodes."""
     check_network(network)
     check_two_nodes(network, a, b)
-    nodes = _joined_nodes(network, a, b)
+    nodes = nodes_joining(network, a, b)
     bottom, tops = _solution(network, nodes, a, b, [a])
     return limited(quotient(tops[0], bottom))
 
@@ -34,7 +34,7 @@ def voltage_ratio(network, a, b, c, d):
     check_two_nodes(network, a, b)
     check_node(network, c)
     check_node(network, d)
-    nodes = _joined_nodes(network, a, b)
+    nodes = nodes_joining(network, a, b)
     if c not in nodes or d not in nodes:
         raise NotJoined()
     _, tops = _solution(network, nodes, a, b, [a, c, d])
@@ -46,21 +46,13 @@ def solve_at(network, a, b, ratio):
     check_network(network)
     check_two_nodes(network, a, b)
     check_positive_ratio(ratio)
-    nodes = _joined_nodes(network, a, b)
+    nodes = nodes_joining(network, a, b)
     if any([part[0] == "Z" for part in network[1]]):
         raise BadKind()
     arms = [_arm_at(arm, ratio) for arm in arms_among(network, nodes)]
     numbers = minor_numbers(network[0], arms, _cuts(nodes, a, b, nodes))
     found = [ratio_of(number, numbers[0]) for number in numbers[1:]]
     return _for_all_nodes(network, nodes, found)
-
-
-def _joined_nodes(network, a, b):
-    """The nodes that rows of parts join to b, a among them."""
-    nodes = nodes_joined_to(network, b)
-    if a not in nodes:
-        raise NotJoined()
-    return nodes
 
 
 def _for_all_nodes(network, nodes, found):
@@ -81,19 +73,9 @@ def _solution(network, nodes, a, b, wanted):
 
 
 def _cuts(nodes, a, b, wanted):
-    """The cuts of what the potentials are divided by, and of the potentials of the wanted nodes, by Cramer's rule."""
+    """The cuts of what the potentials are divided by, and of the potentials of the wanted nodes."""
     others = [node for node in nodes if node != b]
-    return [(1, others, others)] + [_cut_of_potential(nodes, a, b, node) for node in wanted]
-
-
-def _cut_of_potential(nodes, a, b, node):
-    if node == b:
-        return 0, [], []
-    rest = [other for other in nodes if other not in (a, b, node)]
-    if node == a:
-        return 1, rest, rest
-    # In the order rest, node, a of both rows and columns, row and column that go are neighbors: the sign is -1.
-    return -1, rest + [node], rest + [a]
+    return [(1, others, others)] + [cut_of_potential(nodes, a, b, node) for node in wanted]
 
 
 def _arm_at(arm, ratio):

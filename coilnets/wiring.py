@@ -1,7 +1,7 @@
 """Which values are networks, the errors for those that are not, and which nodes are joined."""
 
 from coilnets.checks import is_function, is_integer, is_positive_ratio
-from coilnets.errors import BadNetwork, BadNode
+from coilnets.errors import BadNetwork, BadNode, NotJoined
 
 MOST_NODES = 8
 MOST_PARTS = 14
@@ -82,3 +82,11 @@ def nodes_joined_to(network, node):
             if joined[part[1]] or joined[part[2]]:
                 joined[part[1]] = joined[part[2]] = True
     return [at for at in range(many) if joined[at]]
+
+
+def nodes_joining(network, a, b):
+    """The nodes that rows of parts join to b, a among them."""
+    nodes = nodes_joined_to(network, b)
+    if a not in nodes:
+        raise NotJoined()
+    return nodes

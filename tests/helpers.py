@@ -4,7 +4,7 @@ import random
 import unittest
 from fractions import Fraction
 
-from coilnets import functions, solving
+from coilnets import chains, functions, solving
 
 LIMIT = 10 ** 60
 
@@ -290,3 +290,90 @@ LOSSLESS = (
     lossless_of((2, 4), (1, 3), 2), lossless_of((Fraction(1, 9), 6), (4,), 1, -1), LOSSLESS_12,
     functions.reciprocal(LOSSLESS_12),
 )
+
+
+IDENTITY = (ONE, ZERO, ZERO, ONE)
+
+# Values that are no tuples of four functions, with the index that BadFour, and BadChain too, tells.
+BAD_FOURS = tuple([(value, None) for value in ODDITIES]) + (
+    ((ONE,) * 3, None), ((ONE,) * 5, None), ((), None), ([ONE, ZERO, ZERO, ONE], None), ({ONE: 1}, None),
+    ("abcd", None), (ONE, None), ((ONE,), None), ((None, ZERO, None, ONE), 0), ((ONE, ZERO, 7, None), 2),
+    ((None,) * 4, 0), ((ONE, ONE, ONE, None), 3)) + tuple(
+        [(IDENTITY[:at] + (value,) + IDENTITY[at + 1:], at) for at in range(4) for value in BAD_FUNCTIONS])
+
+# The same for BadChain alone: a d - b c is 0.
+BAD_CHAINS = BAD_FOURS + (
+    ((ONE,) * 4, None), ((ZERO,) * 4, None), ((ONE, ZERO, ZERO, ZERO), None), ((ZERO, ONE, ZERO, S), None),
+    ((S, ONE, S, ONE), None), ((S, power(2), ONE, S), None), ((((1, 1), (2, 1)), ((1,), (2, 1)), ((1, 1), (1,)), ONE),
+                                                             None),
+    ((ONE, ONE, ONE, (1, 1)), 3), ((((2,), (2,)), ZERO, ZERO, ZERO), 0))
+
+
+def matrix_at(chain, place):
+    """The rows of the values of a chain at a fraction, worked out by itself."""
+    a, b, c, d = [quotient_at(one, place) for one in chain]
+    return (a, b), (c, d)
+
+
+def matrix_product(one, other):
+    return tuple([tuple([sum(row[k] * other[k][at] for k in range(2)) for at in range(2)]) for row in one])
+
+
+def lossless_of_degree(degree, first=1):
+    """A lossless function of a degree, the sum of its poles at other places for other numbers first."""
+    poles = [tank(1, first + at) for at in range(degree // 2)]
+    return sum_of(poles + [S] * (degree % 2)) if degree else ZERO
+
+
+SUM_OF_12 = sum_of([((1,), (k, 1)) for k in range(1, 13)])
+
+
+def some_chains(seed, many):
+    """Chains of three small rungs, whose impedances may be anything but 0, some of them times a function."""
+    source = random.Random(seed)
+    ones = [one for one in some_functions(seed, 4 * many, 1, 3) if one != ZERO]
+    answer = []
+    while len(answer) < many:
+        chain = IDENTITY
+        for _ in range(source.randint(1, 3)):
+            chain = chains.cascade(chain, source.choice((chains.series_chain, chains.across_chain))(source.choice(ones)))
+        if source.random() < 0.4:
+            factor = source.choice(ones)
+            rows = [functions.multiply(factor, one) for one in chain[:2]]
+            chain = tuple(rows) + chain[2:]
+        answer.append(chain)
+    return answer
+
+
+def some_joined_network(source):
+    """A network in which what is sent into 1 shows at 2, and the other way round."""
+    while True:
+        nodes = source.randint(3, 5)
+        network = some_network(source, nodes, source.randint(nodes - 1, 7))
+        if solving.potentials(network, 1, 0)[2] != ZERO:
+            return network
+
+
+# Values that are no pieces, with the index that BadPieces tells.
+BAD_PIECES = tuple([(value, None) for value in ODDITIES if not isinstance(value, tuple)]) + (
+    ([(1, 1)], None), ({}, None), ({(1, 1): 1}, None), ("ab", None), (((1, 1),) * 13, None), ((None,) * 13, None),
+    ((1, 1), 0), ((1,), 0), (((1, 1),) * 11 + (None,), 11), (((1, 1), (2, 1), 3, None), 2), ((None,) * 12, 0)) + tuple(
+        [((value,), 0) for value in BAD_POSITIVES]) + tuple([(((1, 1), value, None), 1) for value in BAD_POSITIVES])
+
+
+def some_ratio(source, most=9):
+    return as_ratio(Fraction(source.randint(1, most), source.randint(1, 5)))
+
+
+def some_pieces(source, many, most=9):
+    return tuple([some_ratio(source, most) for _ in range(many)])
+
+
+def gap_of(left, echo):
+    """The polynomial left(s) left(-s) - echo(s) echo(-s)."""
+    squares = [product_of(one, [-c if at % 2 else c for at, c in enumerate(one)]) for one in (left, echo)]
+    many = max(len(square) for square in squares)
+    found = [sum(sign * square[at] for sign, square in zip((1, -1), squares) if at < len(square)) for at in range(many)]
+    while found and found[-1] == 0:
+        found.pop()
+    return tuple(found)

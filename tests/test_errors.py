@@ -14,7 +14,8 @@ class ErrorClasses(CoilTest):
     def test_direct_subclasses(self):
         for name in ("BadPolynomial", "BadFunction", "BadRatio", "NoFunction", "TooLarge", "NotText", "InvalidText",
                      "BadNetwork", "BadNode", "BadNumber", "BadKind", "NotJoined",
-                     "BadPoint", "NotPositive", "BadPairs", "BadLadder", "NotLossless", "TooManyNodes", "NotSimple"):
+                     "BadPoint", "NotPositive", "BadPairs", "BadLadder", "NotLossless", "TooManyNodes", "NotSimple",
+                     "BadChain", "BadFour", "NotReciprocal", "NotSymmetric", "NotFilter", "BadPieces", "BadRung"):
             self.assertEqual(getattr(errors, name).__bases__, (errors.CoilError,), name)
 
     def test_fields(self):
@@ -26,6 +27,9 @@ class ErrorClasses(CoilTest):
         self.assertIsNone(errors.BadPairs(None).index)
         self.assertEqual(errors.BadLadder(12).index, 12)
         self.assertIsNone(errors.BadLadder(None).index)
+        for error in (errors.BadChain, errors.BadFour, errors.BadPieces):
+            self.assertEqual(error(11).index, 11)
+            self.assertIsNone(error(None).index)
 
 
 if __name__ == "__main__":

@@ -49,11 +49,31 @@ FUNCTIONS = {
         "rc_far": ["function"], "rc_near": ["function"], "rl_far": ["function"], "rl_near": ["function"],
         "order_of": ["function"], "mirrored": ["function", "kind"],
     },
+    "chains": {
+        "series_chain": ["function"], "across_chain": ["function"], "cascade": ["one", "other"],
+        "ladder_chain": ["ladder"], "network_chain": ["network", "i", "o"], "is_reciprocal": ["chain"],
+        "is_symmetric": ["chain"], "turned_round": ["chain"], "loaded": ["chain", "function"], "open_end": ["chain"],
+        "short_end": ["chain"],
+    },
+    "fours": {
+        "impedances_of": ["chain"], "admittances_of": ["chain"], "hybrids_of": ["chain"], "from_impedances": ["four"],
+        "from_admittances": ["four"], "side_by_side": ["one", "other"], "in_series": ["one", "other"],
+        "lattice": ["one", "two"], "arms_of": ["chain"], "tee_of": ["chain"], "pie_of": ["chain"],
+    },
+    "filters": {
+        "gain_of": ["ladder"], "echo_polys": ["ladder"], "turned_filter": ["ladder"],
+        "filter_ladder": ["left", "echo"],
+    },
+    "lines": {
+        "line_impedance": ["pieces", "end"], "take_piece": ["function"], "line_of": ["function"],
+        "exchanged": ["piece", "rung"],
+    },
 }
 
 ERRORS = ("CoilError", "BadPolynomial", "BadFunction", "BadRatio", "NoFunction", "TooLarge", "NotText", "InvalidText",
           "BadNetwork", "BadNode", "BadNumber", "BadKind", "NotJoined", "BadPoint", "NotPositive", "BadPairs",
-          "BadLadder", "NotLossless", "TooManyNodes", "NotSimple")
+          "BadLadder", "NotLossless", "TooManyNodes", "NotSimple", "BadChain", "BadFour", "NotReciprocal", "NotSymmetric",
+          "NotFilter", "BadPieces", "BadRung")
 
 
 class Interface(unittest.TestCase):

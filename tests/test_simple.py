@@ -5,7 +5,7 @@ import unittest
 from fractions import Fraction
 
 from coilnets.errors import BadFunction, BadKind, CoilError, NoFunction, NotSimple, TooLarge
-from coilnets.functions import add, compose, degree, divide, multiply, reciprocal, subtract, value_at
+from coilnets.functions import compose, degree, divide, multiply, reciprocal, subtract, value_at
 from coilnets.ladders import ladder_impedance
 from coilnets.lossless import is_lossless
 from coilnets.roots import count_roots

@@ -11,7 +11,7 @@ from coilnets.networks import scaled
 from coilnets.solving import impedance, potentials, solve_at, voltage_ratio
 from coilnets.trees import split_sum, tree_sum
 from helpers import BAD_NETWORKS, BAD_NODES, BAD_POSITIVES, LIMIT, ONE, R1, S, ZERO, CoilTest
-from helpers import admittance_at, as_fraction, as_ratio, power, quotient_at, some_functions, some_network
+from helpers import admittance_at, as_fraction, as_ratio, quotient_at, some_functions, some_network
 
 MINUS = ((-1,), (1,))
 PLACES = (Fraction(13, 7), Fraction(1, 3))
