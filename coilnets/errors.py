@@ -139,3 +139,63 @@ class BadPieces(CoilError):
 
 class BadRung(CoilError):
     """A value is no rung that can be exchanged with a piece."""
+
+
+class BadSteps(CoilError):
+    """A value is no steps; index is that of the first thing that is no ratio, or None if there is no such thing."""
+
+    def __init__(self, index):
+        super().__init__(f"no steps (index {index})")
+        self.index = index
+
+
+class BadStep(CoilError):
+    """A step has the size 1 or more."""
+
+
+class NotFading(CoilError):
+    """The answer in time of a function does not fade."""
+
+
+class NotProper(CoilError):
+    """The top of a function is of a greater degree than its bottom."""
+
+
+class BadName(CoilError):
+    """A value is no name, or is a name that is taken already."""
+
+
+class BadPart(CoilError):
+    """Values do not make a part."""
+
+
+class Full(CoilError):
+    """There are as many parts as there may be."""
+
+
+class NoPart(CoilError):
+    """There is no part of this name."""
+
+
+class NothingToUndo(CoilError):
+    """Everything was taken back already."""
+
+
+class BadTerminals(CoilError):
+    """A value is no terminals; index is that of the first wrong thing, or None if there is no such thing."""
+
+    def __init__(self, index):
+        super().__init__(f"no terminals (index {index})")
+        self.index = index
+
+
+class BadTable(CoilError):
+    """A value is no table; index is that of the first thing that is no row, or None if there is no such thing."""
+
+    def __init__(self, index):
+        super().__init__(f"no table (index {index})")
+        self.index = index
+
+
+class TooManyParts(CoilError):
+    """The network would have more parts than a network may have."""

@@ -377,3 +377,15 @@ def gap_of(left, echo):
     while found and found[-1] == 0:
         found.pop()
     return tuple(found)
+
+
+# Values that are no steps, with the index that BadSteps tells.
+BAD_STEPS = tuple([(value, None) for value in ODDITIES if not isinstance(value, tuple) or value == ()]) + (
+    ([(1, 2)], None), ({(1, 2): 1}, None), ("ab", None), (((1, 2),) * 13, None), ((None,) * 13, None),
+    ((1, 2), 0), ((0,), 0), (((1, 2),) * 11 + (None,), 11), (((1, 2), (0, 1), 3, None), 2), ((None,) * 12, 0)) + tuple(
+        [((value,), 0) for value in BAD_RATIOS]) + tuple([(((1, 2), value, None), 1) for value in BAD_RATIOS])
+
+
+def some_steps(source, many):
+    """Steps below 1 in size."""
+    return tuple([as_ratio(Fraction(source.randint(-8, 8), 9)) for _ in range(many)])

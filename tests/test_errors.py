@@ -15,7 +15,9 @@ class ErrorClasses(CoilTest):
         for name in ("BadPolynomial", "BadFunction", "BadRatio", "NoFunction", "TooLarge", "NotText", "InvalidText",
                      "BadNetwork", "BadNode", "BadNumber", "BadKind", "NotJoined",
                      "BadPoint", "NotPositive", "BadPairs", "BadLadder", "NotLossless", "TooManyNodes", "NotSimple",
-                     "BadChain", "BadFour", "NotReciprocal", "NotSymmetric", "NotFilter", "BadPieces", "BadRung"):
+                     "BadChain", "BadFour", "NotReciprocal", "NotSymmetric", "NotFilter", "BadPieces", "BadRung",
+                     "BadSteps", "BadStep", "NotFading", "NotProper", "BadName", "BadPart", "Full", "NoPart",
+                     "NothingToUndo", "BadTerminals", "BadTable", "TooManyParts"):
             self.assertEqual(getattr(errors, name).__bases__, (errors.CoilError,), name)
 
     def test_fields(self):
@@ -27,7 +29,8 @@ class ErrorClasses(CoilTest):
         self.assertIsNone(errors.BadPairs(None).index)
         self.assertEqual(errors.BadLadder(12).index, 12)
         self.assertIsNone(errors.BadLadder(None).index)
-        for error in (errors.BadChain, errors.BadFour, errors.BadPieces):
+        for error in (errors.BadChain, errors.BadFour, errors.BadPieces, errors.BadSteps, errors.BadTerminals,
+                      errors.BadTable):
             self.assertEqual(error(11).index, 11)
             self.assertIsNone(error(None).index)
 

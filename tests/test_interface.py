@@ -68,12 +68,25 @@ FUNCTIONS = {
         "line_impedance": ["pieces", "end"], "take_piece": ["function"], "line_of": ["function"],
         "exchanged": ["piece", "rung"],
     },
+    "layers": {
+        "layer_echo": ["steps"], "echo_series": ["steps", "many"], "steps_of": ["series"],
+        "steps_of_impedances": ["pieces"], "pieces_of_steps": ["first", "steps"],
+    },
+    "energies": {"energy_of": ["function"], "first_values": ["function", "many"]},
+    "terminals": {
+        "table_of": ["network", "terminals"], "without_node": ["network", "node"],
+        "reduced_network": ["network", "terminals"], "resistors_of": ["table"], "ratios_of": ["table"],
+    },
 }
 
 ERRORS = ("CoilError", "BadPolynomial", "BadFunction", "BadRatio", "NoFunction", "TooLarge", "NotText", "InvalidText",
           "BadNetwork", "BadNode", "BadNumber", "BadKind", "NotJoined", "BadPoint", "NotPositive", "BadPairs",
           "BadLadder", "NotLossless", "TooManyNodes", "NotSimple", "BadChain", "BadFour", "NotReciprocal", "NotSymmetric",
-          "NotFilter", "BadPieces", "BadRung")
+          "NotFilter", "BadPieces", "BadRung", "BadSteps", "BadStep", "NotFading", "NotProper", "BadName", "BadPart",
+          "Full", "NoPart", "NothingToUndo", "BadTerminals", "BadTable", "TooManyParts")
+
+BENCH = {"put": ["name", "kind", "a", "b", "value"], "take": ["name"], "undo": [], "seen": ["a", "b"],
+         "seen_without": ["name", "a", "b"]}
 
 
 class Interface(unittest.TestCase):
@@ -90,6 +103,18 @@ class Interface(unittest.TestCase):
         module = importlib.import_module("coilnets.errors")
         for name in ERRORS:
             self.assertEqual(getattr(module, name).__module__, module.__name__)
+
+    def test_bench(self):
+        module = importlib.import_module("coilnets.benches")
+        bench = module.Bench
+        self.assertEqual(bench.__module__, module.__name__)
+        self.assertEqual(list(inspect.signature(bench).parameters), ["many"])
+        for name, arguments in BENCH.items():
+            self.assertEqual(list(inspect.signature(vars(bench)[name]).parameters), ["self"] + arguments)
+        for name in ("names", "network"):
+            self.assertIsInstance(vars(bench)[name], property)
+        for name in ("__init__", "__len__", "__contains__", "__eq__"):
+            self.assertIn(name, vars(bench))
 
 
 if __name__ == "__main__":

@@ -96,7 +96,7 @@ class Language(unittest.TestCase):
             taken = set(dir(builtins)) | {
                 alias.name for node in tree.body if isinstance(node, ast.ImportFrom) for alias in node.names}
             taken |= {node.name for node in tree.body if isinstance(node, ast.ClassDef)}
-            for node in tree.body:
+            for node in ast.walk(tree):
                 if isinstance(node, ast.FunctionDef):
                     self.assertEqual(set(bound_names(node)) & taken, set(), (file, node.name))
             at_top = [node.name for node in tree.body if isinstance(node, (ast.FunctionDef, ast.ClassDef))]
@@ -122,8 +122,20 @@ class Language(unittest.TestCase):
                     self.assertIsInstance(side, ast.Constant, (file, node.lineno))
 
     def test_generators_stand_in_none(self):
-        """A later class with == would bar them from any, all, sum and the like: lists are taken throughout."""
+        """A class with == bars them from any, all, sum and the like: lists are taken throughout."""
         self.assertEqual(nodes((ast.GeneratorExp, ast.Yield, ast.YieldFrom)), [])
+
+    def test_methods_that_change_nothing(self):
+        """Operators, properties, == and len assign nothing and call next to nothing."""
+        changing = (ast.Assign, ast.AugAssign, ast.AnnAssign, ast.Delete, ast.For, ast.While, ast.With, ast.NamedExpr)
+        for file, node in nodes(ast.FunctionDef):
+            special = node.name.startswith("__") and node.name != "__init__"
+            if special or node.decorator_list:
+                for inner in ast.walk(node):
+                    self.assertNotIsInstance(inner, changing, (file, node.name))
+                    if isinstance(inner, ast.Call):
+                        self.assertIn(ast.unparse(inner.func), ("len", "isinstance", "tuple"), (file, node.name))
+        self.assertEqual([node.attr for _, node in nodes(ast.Attribute) if node.attr == "sort"], [])
 
 
 if __name__ == "__main__":
